@@ -125,7 +125,7 @@ func TestNothingIsShared(t *testing.T) {
 	x := engine.Of(os, overs)
 	os[0], overs[0] = "\x01q", api.Drop
 	z := of("\x02aa", "ex.", ".")
-	z = append(z, api.Record{Name: parse("l.aa."), Type: api.A, TTL: 7, Data: v4})
+	z = append(zone.Zone{{Name: parse("l.aa."), Type: api.A, TTL: 7, Data: v4}}, z...)
 	x.Set(0, z)
 	x.Live(0, true)
 	want := slices.Clone(z)
@@ -140,7 +140,7 @@ func TestNothingIsShared(t *testing.T) {
 	if got := x.Policies()[0]; !samePolicy(got, search.Policy{Origin: "\x02aa", Zone: want, Live: true}) {
 		t.Errorf("%+v", got)
 	}
-	if v, _ := x.Decide(search.Facts{Name: parse("l.")}); len(v.Action.Records) != 1 || v.Action.Records[0] != want[1] {
+	if v, _ := x.Decide(search.Facts{Name: parse("l.")}); len(v.Action.Records) != 1 || v.Action.Records[0] != want[0] {
 		t.Errorf("%+v", v)
 	}
 }
