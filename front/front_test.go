@@ -175,6 +175,18 @@ func TestOf(t *testing.T) {
 	}
 }
 
+func TestTheZeroFrontEnds(t *testing.T) {
+	f := &front.Front{}
+	q := ask(9, "x.", api.A)
+	f.Query(me, 5353, false, bytes(q))
+	f.Answer(bytes(told(13849, q.Question)), nil, nil)
+	f.Transfer(0, bytes(q))
+	f.Tick()
+	f.Zone(0)
+	f.Events()
+	f.Wins(search.Facts{})
+}
+
 func TestReadyAndZone(t *testing.T) {
 	w := begun(t, front.Config{Origins: []api.Name{"\x01a", "\x01b"}})
 	w.f.Tick()
